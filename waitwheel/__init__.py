@@ -1,0 +1,1 @@
+"""Waitwheel: deeds that wait for one another, round after round."""
