@@ -66,7 +66,7 @@ def walk_of(wheel, a, b, many):
     check_deed(wheel.size(), a)
     check_deed(wheel.size(), b)
     rows = rows_from(wheel, a, many)
-    if rows[many][b] is None:
+    if rows[-1][b] is None:
         return None
     backwards = [b]
     for k in range(many, 0, -1):
