@@ -1,6 +1,7 @@
 """What several tests share: wheels to try, and slow ways to the same answers."""
 
 import random
+from fractions import Fraction
 
 from waitwheel.wheel import Wheel
 
@@ -28,6 +29,70 @@ def random_wheels(seed, many, least, most_size, most=9):
 
 def ring_ties(size, weight=1):
     return [(a, (a + 1) % size, weight) for a in range(size)]
+
+
+def whole_wheels(seed, many, least, most_size, most=9):
+    """Wheels in one piece: a ring through all deeds in mixed order, and some ties beside it."""
+    rng = random.Random(seed)
+    for _ in range(many):
+        size = rng.randint(least, most_size)
+        around = list(range(size))
+        rng.shuffle(around)
+        pairs = {(around[k], around[k - 1]) for k in range(size)}
+        share = rng.choice([0, 5, 30, 100])
+        pairs |= {(a, b) for a in range(size) for b in range(size) if rng.randrange(100) < share}
+        yield Wheel(size, [(a, b, rng.randint(-most, most)) for a, b in sorted(pairs)])
+
+
+def random_times(rng, size, most=9):
+    return [rng.randint(-most, most) for _ in range(size)]
+
+
+def next_by_ties(wheel, times):
+    """The next round straight from the ties, each sum looked at by itself."""
+    told = {}
+    for a, b, w in wheel.ties():
+        if b not in told or times[a] + w > told[b]:
+            told[b] = times[a] + w
+    return [told[b] for b in range(wheel.size())]
+
+
+def rounds_by_ties(wheel, times, many):
+    """The times behind 0, 1, 2 .. so many rounds."""
+    told = [list(times)]
+    for _ in range(many):
+        told.append(next_by_ties(wheel, told[-1]))
+    return told
+
+
+def all_rings(wheel):
+    """Every ring of a small wheel, each once, its least deed first."""
+    onward = {a: [] for a in range(wheel.size())}
+    for a, b, _ in wheel.ties():
+        onward[a].append(b)
+    rings = []
+    paths = [[a] for a in range(wheel.size())]
+    while paths:
+        path = paths.pop()
+        for b in onward[path[-1]]:
+            if b == path[0]:
+                rings.append(path)
+            elif b > path[0] and b not in path:
+                paths.append(path + [b])
+    return rings
+
+
+def mean_of(wheel, ring):
+    """A ring's mean; a KeyError where one of its steps, or the step back to its first deed, is no tie."""
+    return Fraction(weight_of(wheel, ring + ring[:1]), len(ring))
+
+
+def led_from(wheel, deed):
+    """The deeds from which a walk leads to the deed, itself among them."""
+    found = {deed}
+    for _ in range(wheel.size()):
+        found |= {a for a, b, _ in wheel.ties() if b in found}
+    return found
 
 
 def all_walks(wheel, many):

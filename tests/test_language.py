@@ -125,6 +125,69 @@ class LanguageTest(unittest.TestCase):
                 for kind in (str, int, list, dict, set, bytes, tuple):
                     self.assertFalse(hasattr(kind, word), word)
 
+    def test_names_of_a_file_are_bound_once_and_not_used_otherwise(self):
+        for name, tree in trees():
+            drawn = [alias.name for node in tree.body if isinstance(node, ast.ImportFrom) for alias in node.names]
+            made = [node.name for node in tree.body if isinstance(node, (ast.FunctionDef, ast.ClassDef))]
+            given = [node.targets[0].id for node in tree.body if isinstance(node, ast.Assign)]
+            tops = drawn + made + given
+            self.assertEqual(len(set(tops)), len(tops), name)
+            for part in [node for node in tree.body if isinstance(node, (ast.FunctionDef, ast.ClassDef))]:
+                for node in ast.walk(part):
+                    word = getattr(node, "arg", None) if isinstance(node, ast.arg) else getattr(node, "id", None)
+                    if isinstance(node, ast.arg) or isinstance(getattr(node, "ctx", None), ast.Store):
+                        self.assertNotIn(word, tops, name)
+            for node in tree.body:
+                if isinstance(node, ast.Assign):
+                    self.assertIsInstance(node.value, ast.Constant, (name, node.lineno))
+
+    def test_errors(self):
+        own = {node.name for _, node in nodes(ast.ClassDef)}
+        for name, node in nodes(ast.Raise):
+            self.assertIsInstance(node.exc, ast.Call, (name, node.lineno))
+            self.assertIn(node.exc.func.id, own, (name, node.lineno))
+        for name, node in nodes(ast.ExceptHandler):
+            self.assertIn(node.type.id, own, (name, node.lineno))
+            causes = [part.cause.id for part in ast.walk(node) if isinstance(part, ast.Raise) and part.cause]
+            self.assertLessEqual(set(causes), {node.name}, (name, node.lineno))
+
+    def test_is_stands_beside_none_alone(self):
+        for name, node in nodes(ast.Compare):
+            for kind, right in zip(node.ops, node.comparators):
+                if isinstance(kind, (ast.Is, ast.IsNot)):
+                    self.assertIsInstance(right, ast.Constant, (name, node.lineno))
+                    self.assertIn(right.value, (None, True, False), (name, node.lineno))
+
+    def test_texts(self):
+        for name, node in nodes(ast.Constant):
+            if isinstance(node.value, str):
+                self.assertIsNone(re.search(r"[%{}]", node.value), (name, node.lineno))
+        for name, node in nodes(ast.FormattedValue):
+            self.assertIsInstance(node.value, ast.Name, (name, node.lineno))
+            self.assertIsNone(node.format_spec, (name, node.lineno))
+        for path in package_files():
+            self.assertIsNone(re.search(r"\\[^nt\\\"']", path.read_text(encoding="utf-8")), path)
+
+    def test_walked_at_once(self):
+        lazy = ("zip", "enumerate", "reversed", "range", "items", "keys", "values")
+        takers = ("list", "tuple", "dict", "sorted", "sum", "any", "all", "enumerate", "zip", "min", "max")
+        for name, tree in trees():
+            fine = [node.iter for node in ast.walk(tree) if isinstance(node, (ast.For, ast.comprehension))]
+            fine += [node.args[0] for node in ast.walk(tree)
+                     if isinstance(node, ast.Call) and isinstance(node.func, ast.Name) and node.func.id in takers]
+            for node in ast.walk(tree):
+                if isinstance(node, ast.Call):
+                    word = node.func.id if isinstance(node.func, ast.Name) else node.func.attr
+                    if word in lazy:
+                        self.assertIn(node, fine, (name, node.lineno))
+
+    def test_no_sets_no_powers_and_no_keywords(self):
+        for name, node in nodes(ast.Call):
+            self.assertEqual(node.keywords, [], (name, node.lineno))
+            self.assertNotIn(getattr(node.func, "id", None), ("set", "frozenset"), (name, node.lineno))
+        for name, node in nodes(ast.BinOp):
+            self.assertNotIsInstance(node.op, ast.Pow, (name, node.lineno))
+
 
 if __name__ == "__main__":
     unittest.main()

@@ -35,17 +35,21 @@ def joined(first, second):
     return [joined_row(row, second) for row in first]
 
 
-def heaviest(wheel, many):
+def joined_often(rows, ties, many):
     # Weights for twice as many ties come from one join, so many ties take few joins.
-    weights = no_tie_weights(wheel.size())
-    power = one_tie_weights(wheel)
+    power = ties
     left = many
     while left > 0:
         if left % 2 == 1:
-            weights = joined(weights, power)
-        power = joined(power, power)
+            rows = joined(rows, power)
         left = left // 2
-    return weights
+        if left > 0:
+            power = joined(power, power)
+    return rows
+
+
+def heaviest(wheel, many):
+    return joined_often(no_tie_weights(wheel.size()), one_tie_weights(wheel), many)
 
 
 def rows_from(wheel, a, many):
